@@ -107,6 +107,11 @@ func TestE2ChangeAndRemove(t *testing.T) {
 	if want := []api.Volume{l[0], now, l[2], l[3]}; e != api.OK || !slices.Equal(got, want) {
 		t.Error(got, e)
 	}
+	first := api.Volume{Name: "a", Size: 8}
+	got, e = dir.Change(l, first)
+	if want := []api.Volume{first, l[1], l[2], l[3]}; e != api.OK || !slices.Equal(got, want) {
+		t.Error(got, e)
+	}
 	got, e = dir.Remove(l, "c")
 	if want := []api.Volume{l[0], l[2], l[3]}; e != api.OK || !slices.Equal(got, want) {
 		t.Error(got, e)

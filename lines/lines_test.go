@@ -78,7 +78,7 @@ func TestM1Commands(t *testing.T) {
 		"write vol 9 "+sixty, "ok", "read vol 9", "has "+sixty, "read vol 10", "has ", "read a 0", "error 191", "read x 0", "error 183", "read vol 4096", "error 191", "read vol 4095", "has ",
 		"write vol 4096 x", "error 191", "write x 0 x", "error 183", "write vol 9 \x00y\x00\x00", "ok", "read vol 9", "has \x00y",
 		"snap vol s", "ok", "snap vol s", "error 182", "snap q r", "error 183",
-		"discard vol 0 16", "ok", "discard vol 0 17", "error 191", "discard vol 0 0", "error 191", "read vol 9", "has ", "read s 9", "has \x00y",
+		"discard vol 0 9", "ok", "read vol 9", "has \x00y", "discard vol 10 16", "ok", "read vol 9", "has \x00y", "discard vol 9 1", "ok", "discard vol 0 17", "error 191", "discard vol 0 0", "error 191", "read vol 9", "has ", "read s 9", "has \x00y",
 		"resize s 9", "ok", "resize s 10", "ok", "read s 9", "has ", "resize q 1", "error 183", "resize s 4097", "error 191",
 		"delete vol", "ok", "delete vol", "error 183", "list", "list a:0 s:10", "stat", "stat 2 3 13",
 		"write s 0 \xff\t1", "ok", "read s 0", "has \xff\t1")

@@ -186,6 +186,19 @@ func TestB3Step(t *testing.T) {
 	wantStep(t, a, true, api.OK)
 }
 
+func TestB3TheFirstSlot(t *testing.T) {
+	k, a := start(t, g)
+	k.Fail(0)
+	commit(t, a, 3, 3)
+	k.Blank(0)
+	want(t, repair.Begin(a, 0), api.OK)
+	for range 6 {
+		wantStep(t, a, false, api.OK)
+	}
+	wantStep(t, a, true, api.OK)
+	wantCode(t, k, g, 0, 1, 2)
+}
+
 func TestB3TheLowestFirst(t *testing.T) {
 	g := api.Geometry{K: 2, M: 3, Blocks: 9}
 	k, a := start(t, g)
