@@ -770,3 +770,44 @@ func TestCommitArgumentsAreNotModified(t *testing.T) {
 		t.Error("changed")
 	}
 }
+
+// TestInterruptedCalls shows what an array tells of itself after the power went off in a call: what was done before is there, and nothing else.
+func TestInterruptedCalls(t *testing.T) {
+	// A commit of one stripe: 15 actions of the record, and 6 of the stripe.
+	for n := 1; n <= 21; n++ {
+		k, a := format(t, g)
+		commit(t, a, 50, 3)
+		k.Arm(n)
+		want(t, a.Commit([]api.Write{{Block: 5, Data: block(1)}}), api.ErrRackPower)
+		seq := 1
+		if n > 15 {
+			seq = 2
+		}
+		if a.Seq() != seq {
+			t.Error("Seq", n, a.Seq())
+		}
+		wantLabel(t, a, of(g, 1))
+	}
+	// A slot that gets out, and one that is built: three actions before the label changes.
+	for n := 1; n <= 12; n++ {
+		k, a := format(t, g)
+		if n <= 9 {
+			k.Arm(n)
+			want(t, a.Set(1, api.SlotOut, 0), api.ErrRackPower)
+			if n <= 3 {
+				wantLabel(t, a, of(g, 1))
+			} else {
+				wantLabel(t, a, of(g, 2, out(1)))
+			}
+		}
+		k, a = format(t, g)
+		want(t, a.Set(1, api.SlotOut, 0), api.OK)
+		k.Arm(n)
+		want(t, a.Set(1, api.SlotBuilding, 4), api.ErrRackPower)
+		if n <= 3 {
+			wantLabel(t, a, of(g, 2, out(1)))
+		} else {
+			wantLabel(t, a, of(g, 3, func(l *api.Label) { l.States[1], l.Born[1], l.Cursors[1] = api.SlotBuilding, 3, 4 }))
+		}
+	}
+}
